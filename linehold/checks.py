@@ -35,17 +35,18 @@ def check_takings(places, his, mine):
         raise BadTakings("no place may be taken twice")
 
 
+def is_count(many, value):
+    """Whether the value is the count of one of so many things, counted from 0."""
+    return _is_whole(value) and 0 <= value < many
+
+
 def _is_whole(value):
     # Python takes True and False for integers, the document doesn't.
     return isinstance(value, int) and not isinstance(value, bool)
 
 
-def _is_place(places, value):
-    return _is_whole(value) and 0 <= value < places
-
-
 def _is_list_of_places(places, values):
-    return isinstance(values, list) and all([_is_place(places, value) for value in values])
+    return isinstance(values, list) and all([is_count(places, value) for value in values])
 
 
 def _is_line(places, line):

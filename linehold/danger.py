@@ -50,6 +50,11 @@ def full(places, lines, his, mine):
     return [count for count, line in enumerate(lines) if _missing(line, his) == 0]
 
 
+def free_places(places, his, mine):
+    """The places that neither of the two has taken, rising."""
+    return [place for place in range(places) if place not in his and place not in mine]
+
+
 def _one(places):
     return 1 << places
 
@@ -83,7 +88,6 @@ def _units_of_free(places, lines, his, mine):
     """What each free place is worth, as a dict, the places rising."""
     of_lines = _units_of_lines(places, lines, his, mine)
     units = {}
-    for place in range(places):
-        if place not in his and place not in mine:
-            units[place] = sum([part for line, part in zip(lines, of_lines) if place in line])
+    for place in free_places(places, his, mine):
+        units[place] = sum([part for line, part in zip(lines, of_lines) if place in line])
     return units

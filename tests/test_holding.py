@@ -7,40 +7,6 @@ from linehold.danger import best, sure
 from tests import helper
 
 
-def lost_somewhere(places, lines, his, mine, holder_takes):
-    """Whether he can have a whole line, whatever he takes, against the told places."""
-    if helper.full_lines(lines, his):
-        return True
-    free = helper.free_places(places, his, mine)
-    if not free:
-        return False
-    if holder_takes:
-        return lost_somewhere(places, lines, his, mine + [best(places, lines, his, mine)], False)
-    return any(lost_somewhere(places, lines, his + [place], mine, True) for place in free)
-
-
-def play_on(places, lines, his, mine, holder_takes, choose):
-    """The lines that are all his when each place is taken."""
-    his, mine = list(his), list(mine)
-    while helper.free_places(places, his, mine):
-        if holder_takes:
-            mine.append(best(places, lines, his, mine))
-        else:
-            his.append(choose(places, lines, his, mine))
-        holder_takes = not holder_takes
-    return helper.full_lines(lines, his)
-
-
-def taker_by_chance(source):
-    return lambda places, lines, his, mine: source.choice(helper.free_places(places, his, mine))
-
-
-def greedy_taker(places, lines, his, mine):
-    """He takes what raises the danger most."""
-    free = helper.free_places(places, his, mine)
-    return max(free, key=lambda place: helper.value_of_play(lines, his + [place], mine))
-
-
 def small_play(source):
     places = source.randint(1, 7)
     lines = helper.random_lines(source, places, source.randint(1, 12), 5)
@@ -70,28 +36,30 @@ class TheHolderHolds(unittest.TestCase):
             for by, holder_takes in ((0, True), (1, False)):
                 if held[by]:
                     checked[by] += 1
-                    self.assertFalse(lost_somewhere(*play, holder_takes), play)
+                    self.assertFalse(helper.lost_somewhere(*play, holder_takes, best), play)
         self.assertGreater(min(checked), 100)
 
     def test_a_play_that_is_not_held_can_be_lost(self):
         self.assertFalse(sure(3, [[0, 1], [1, 2]], [], [])[1])
-        self.assertTrue(lost_somewhere(3, [[0, 1], [1, 2]], [], [], False))
+        self.assertTrue(helper.lost_somewhere(3, [[0, 1], [1, 2]], [], [], False, best))
         self.assertFalse(sure(2, [[0], [1]], [], [])[0])
-        self.assertTrue(lost_somewhere(2, [[0], [1]], [], [], True))
+        self.assertTrue(helper.lost_somewhere(2, [[0], [1]], [], [], True, best))
 
     def test_large_plays_against_chance(self):
         source = Random(12)
         for _ in range(12):
             places, lines, bound = large_play(source)
             for _ in range(3):
-                lost = play_on(places, lines, [], [], bound == 0, taker_by_chance(source))
+                taker = helper.taker_by_chance(source)
+                lost = helper.play_on(places, lines, [], [], bound == 0, taker, best)
                 self.assertEqual(lost, [])
 
     def test_large_plays_against_the_greedy_one(self):
         source = Random(13)
         for _ in range(12):
             places, lines, bound = large_play(source)
-            self.assertEqual(play_on(places, lines, [], [], bound == 0, greedy_taker), [])
+            lost = helper.play_on(places, lines, [], [], bound == 0, helper.greedy_taker, best)
+            self.assertEqual(lost, [])
 
     def test_from_a_play_as_it_stands(self):
         source = Random(14)
@@ -101,7 +69,8 @@ class TheHolderHolds(unittest.TestCase):
             for by, held in enumerate(sure(places, lines, his, mine)):
                 if held and lines:
                     held_plays += 1
-                    self.assertEqual(play_on(places, lines, his, mine, by == 0, greedy_taker), [])
+                    lost = helper.play_on(places, lines, his, mine, by == 0, helper.greedy_taker, best)
+                    self.assertEqual(lost, [])
         self.assertGreater(held_plays, 50)
 
 

@@ -2,8 +2,9 @@ import unittest
 
 from linehold.danger import best, danger, full, sure, worths
 from linehold.errors import BadLines, BadPlaces, BadTakings
+from linehold.pairing import reply, told
 
-ALL_FIVE = (danger, worths, sure, best, full)
+OF_PLAYS = (danger, worths, sure, best, full, reply)
 NO_PLACES = (0, 61, -1, -60, 1000, True, False, None, "", "3", "three", b"3", [], [3], (3,), {}, {3: 3}, {3},
              object(), int, len)
 NO_PLACES_TO_TAKE = (-1, 3, 4, 60, 10 ** 30, True, False, None, "", "0", b"0", [], [0], (0,), {}, {0}, object())
@@ -12,15 +13,21 @@ NO_LISTS = (None, True, False, 0, 1, "", "0", b"", (), (0,), {}, {0: 0}, set(), 
 
 class TheRefusals(unittest.TestCase):
     def assert_refused(self, error, places, lines, his, mine):
-        for function in ALL_FIVE:
-            with self.subTest(function=function.__name__, play=(places, lines, his, mine)):
-                with self.assertRaises(error) as caught:
-                    function(places, lines, his, mine)
-                self.assertIs(type(caught.exception), error)
+        for function in OF_PLAYS:
+            self.assert_refuses(error, function, places, lines, his, mine)
+        if error is not BadTakings:
+            self.assert_refuses(error, told, places, lines)
+
+    def assert_refuses(self, error, function, *given):
+        with self.subTest(function=function.__name__, given=given):
+            with self.assertRaises(error) as caught:
+                function(*given)
+            self.assertIs(type(caught.exception), error)
 
     def assert_taken(self, places, lines, his, mine):
-        for function in ALL_FIVE:
+        for function in OF_PLAYS:
             function(places, lines, his, mine)
+        told(places, lines)
 
 
 class RefusedPlaces(TheRefusals):
